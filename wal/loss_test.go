@@ -68,13 +68,12 @@ func (w *told) reopenAll() {
 }
 
 // openCut lets the power go while the log is opened: nothing is told by that.
-func (w *told) openCut(fuse int, keep []bool, tear int) {
+func (w *told) openCut(fuse int) {
 	w.t.Helper()
 	w.d.Fuse(fuse)
 	if l, err := Open(w.d, w.from, w.n); err != api.ErrDown || l == nil {
 		w.t.Fatal("Open", err)
 	}
-	w.d.On(keep, tear)
 }
 
 func (w *told) append(s string) api.Errno {
@@ -219,8 +218,10 @@ func TestLossWhileOpened(t *testing.T) {
 				for way := range 1 << waits {
 					for i := range 6 {
 						lose(t, work, fuse, way, -1, func(w *told) {
-							w.openCut(1+i%2, []bool{i < 2}, i/2-1)
-							w.openCut(2-i%2, []bool{i > 3}, i/2-1)
+							w.openCut(1 + i%2)
+							w.d.On([]bool{i < 2}, i/2-1)
+							w.openCut(2 - i%2)
+							w.d.On([]bool{i > 3}, i/2-1)
 						})
 					}
 				}
@@ -311,8 +312,12 @@ func TestManyLosses(t *testing.T) {
 				w.reopenAll()
 			}
 			for range r.Intn(3) {
+				// It may be opened while writes of the log ahead still wait.
+				if w.d.Down() || r.Intn(2) == 0 {
+					w.loss(r)
+				}
+				w.openCut(1 + r.Intn(2))
 				w.loss(r)
-				w.openCut(1+r.Intn(2), kept(r.Intn(2), 1), r.Intn(3)-1)
 			}
 			w.loss(r)
 			w.reopen()

@@ -2,9 +2,9 @@ package store
 
 import (
 	"cmp"
-	"maps"
 	"slices"
 
+	"dockmaster/age"
 	"dockmaster/api"
 	"dockmaster/key"
 	"dockmaster/page"
@@ -20,20 +20,10 @@ func once[T cmp.Ordered](list []T) []T {
 // inOrder is what stands under transactions, the elder ones ahead, each apart from it.
 func inOrder[V any](m map[api.Tid]V, apart func(V) V) []V {
 	var out []V
-	for _, t := range slices.SortedFunc(maps.Keys(m), byAge) {
+	for _, t := range age.Keys(m) {
 		out = append(out, apart(m[t]))
 	}
 	return out
-}
-
-func byAge(t, u api.Tid) int {
-	switch {
-	case t.Elder(u):
-		return -1
-	case u.Elder(t):
-		return 1
-	}
-	return 0
 }
 
 // loads is a view that notes whether the power went: what goes through a tree leaves out what can't be loaded, and doesn't tell.

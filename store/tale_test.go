@@ -7,6 +7,7 @@ import (
 	"slices"
 	"strings"
 
+	"dockmaster/age"
 	"dockmaster/api"
 	"dockmaster/key"
 	"dockmaster/rec"
@@ -119,7 +120,7 @@ func (m tale) lost() tale {
 // text is the keys, and what is open; what is decided is looked at apart.
 func (m tale) text() string {
 	s := texts(m.now, func(p api.Pair) string { return p.Key + "=" + p.Val })
-	for _, t := range slices.SortedFunc(maps.Keys(m.opens), byAge) {
+	for _, t := range age.Keys(m.opens) {
 		o := m.opens[t]
 		keys := []string{}
 		for _, x := range o.turns {
